@@ -236,35 +236,95 @@ func TestACutDoIsWholeOrNot(t *testing.T) {
 	}
 }
 
-func TestTheUsersEditsAreKept(t *testing.T) {
-	f := simfs.New(0)
-	f.Edit("a", api.Plain, []byte("old"))
-	l := []journal.Change{put("a", "new"), put("b", "new"), put("c", "new"), gone("d")}
-	for n := 1; ; n++ {
-		g := f.Twin()
-		g.Arm(n, true, true, true, true)
-		if journal.Do(g, dir, l...) == api.OK {
-			break
+// edits tells what a user may do to p: other bytes, those that were there or are to be there, none.
+func edits(p string) []func(f *simfs.FS) string {
+	var l []func(f *simfs.FS) string
+	for _, data := range []string{"mine", "old", "new"} {
+		l = append(l, func(f *simfs.FS) string {
+			if f.Edit(p, api.Run, []byte(data)) != api.OK {
+				return ""
+			}
+			return p + "=" + data + ",2"
+		})
+	}
+	return append(l, func(f *simfs.FS) string {
+		if _, err := f.Stat(p); err != api.OK {
+			return ""
 		}
-		g.On()
-		g.Edit("mine", api.Plain, []byte("m"))
-		g.Unlink("b")
-		g.Edit("b/x", api.Plain, []byte("m")) // in the way of a change
-		want(t, "Recover", journal.Recover(g, dir), api.OK)
-		checkIdle(t, g)
-		got := shown(t, g)
-		if !strings.Contains(got, "mine=m,1") || strings.Contains(got, "a=old") != !strings.Contains(got, "c=new") {
-			t.Errorf("cut at %d: %s", n, got)
+		f.Unlink(p)
+		return "none"
+	})
+}
+
+// without tells what is shown but for p.
+func without(shown, p string) string {
+	var out []string
+	for _, w := range strings.Fields(shown) {
+		if !strings.HasPrefix(w, p+"=") {
+			out = append(out, w)
 		}
 	}
+	return strings.Join(out, " ")
+}
+
+func TestTheUsersEditsAreKept(t *testing.T) {
+	f := simfs.New(0)
+	for _, p := range []string{"a", "d", "other"} {
+		f.Edit(p, api.Plain, []byte("old"))
+	}
+	do := func(g *simfs.FS) api.Errno {
+		return journal.Do(g, dir, put("a", "new"), put("b", "new"), gone("d"))
+	}
+	mend := func(g *simfs.FS) api.Errno { return journal.Recover(g, dir) }
+	done := f.Twin()
+	do(done)
+	ahead, after := shown(t, f), shown(t, done)
+	crashes(f, do, func(g *simfs.FS) {
+		for _, p := range []string{"a", "b", "d", "other", "fresh"} {
+			for _, edit := range edits(p) {
+				h := g.Twin()
+				edited := edit(h)
+				check := func(h *simfs.FS) {
+					want(t, "Recover", mend(h), api.OK)
+					checkIdle(t, h)
+					got := shown(t, h)
+					rest := without(got, p)
+					if rest != without(ahead, p) && rest != without(after, p) {
+						t.Errorf("the rest is not wholly: %s", got)
+					}
+					if has := strings.Contains(" "+got+" ", " "+edited+" "); edited != "" && edited != "none" && !has || edited == "none" && rest != got {
+						t.Errorf("%s: edited to %s: %s", p, edited, got)
+					}
+				}
+				check(h.Twin())
+				if edited != "none" {
+					crashes(h, mend, check)
+				}
+			}
+		}
+	})
+}
+
+func TestAnEditInTheWay(t *testing.T) {
+	f := simfs.New(0)
+	f.Edit("a", api.Plain, []byte("old"))
+	crashes(f, func(g *simfs.FS) api.Errno { return journal.Do(g, dir, put("a", "new"), put("b", "new")) }, func(g *simfs.FS) {
+		g.Edit("b/x", api.Plain, []byte("mine"))
+		want(t, "Recover", journal.Recover(g, dir), api.OK)
+		checkIdle(t, g)
+		if got := shown(t, g); !strings.HasPrefix(got, "a=") || !strings.HasSuffix(got, " b/x=mine,1") && !strings.HasSuffix(got, " b=new,1") {
+			t.Error(got)
+		}
+	})
 }
 
 func TestAnyFilesUnderDirEnd(t *testing.T) {
-	good := []byte{2, 2, 'q', 2} // a plan: q, Plain
-	for _, b := range [][]byte{nil, {0}, {1}, {255}, {200, 1}, good, good[:3], append(good, 0), {2, 0, 0}, {2, 2, 'q', 9}, {4, 2, 'q', 0, 2, 'q', 0}, {2, 8, '.', 'j', '/', 'x', 0}} {
+	good := []byte{2, 2, 2, 'q', 2} // a plan: q, Plain
+	for _, b := range [][]byte{nil, {0}, {1}, {255}, {200, 1}, {0, 0}, {2, 1}, {8, 2, 2, 'q', 2}, good, good[:4], append(good, 0), {2, 2, 0, 0}, {2, 2, 2, 'q', 9}, {2, 4, 2, 'q', 0, 2, 'q', 0}, {0, 2, 8, '.', 'j', '/', 'x', 0}} {
 		f := simfs.New(0)
 		f.Edit(dir+"/plan", api.Plain, b)
-		f.Edit(dir+"/0", api.Run, []byte("staged"))
+		f.Edit(dir+"/new0", api.Run, []byte("staged"))
+		f.Edit(dir+"/old0", api.Run, []byte("old"))
 		f.Edit(dir+"/some/thing", api.Run, nil)
 		if idle, err := journal.Idle(f, dir); idle || err != api.OK {
 			t.Errorf("%v: Idle: %v, %v", b, idle, err)
