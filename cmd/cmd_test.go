@@ -29,6 +29,7 @@ func steps(l ...todo.Step) []todo.Step { return l }
 func TestTextAndParse(t *testing.T) {
 	for s, c := range map[string]cmd.Cmd{
 		"add": {Verb: "add"}, "add a/b": {Verb: "add", Name: "a/b"}, "add -f": {Verb: "add", Name: "-f"}, "rm a": {Verb: "rm", Name: "a"}, "rm a -f": {Verb: "rm", Name: "a", Force: true}, "rm -f": {Verb: "rm", Name: "-f"}, "rm -f -f": {Verb: "rm", Name: "-f", Force: true},
+		"pick 9": {Verb: "pick", N: 9}, "switch 9": {Verb: "switch", N: 9}, "pop 190": {Verb: "pop", N: 190}, "stash " + strings.Repeat("x", 256): {Verb: "stash", Text: strings.Repeat("x", 256)},
 		"commit x": {Verb: "commit", Text: "x"}, "commit  a  b ": {Verb: "commit", Text: " a  b "}, "branch b-1": {Verb: "branch", Name: "b-1"}, "delete b": {Verb: "delete", Name: "b"},
 		"switch main": {Verb: "switch", Name: "main"}, "switch main -f": {Verb: "switch", Name: "main", Force: true}, "switch 3": {Verb: "switch", N: 3}, "switch 1000000 -f": {Verb: "switch", N: 1000000, Force: true},
 		"reset soft 1": {Verb: "reset", Name: "soft", N: 1}, "reset mixed 2": {Verb: "reset", Name: "mixed", N: 2}, "reset hard 3": {Verb: "reset", Name: "hard", N: 3}, "merge b": {Verb: "merge", Name: "b"},
@@ -69,7 +70,7 @@ func TestParseRefuses(t *testing.T) {
 		"branch": "cmd 3: form", "branch ": "cmd 3: form", "branch 1": "cmd 3: name", "branch a b": "cmd 3: form", "delete A": "cmd 4: name",
 		"switch": "cmd 5: form", "switch 0": "cmd 5: arg", "switch 01": "cmd 5: form", "switch 1a": "cmd 5: form", "switch 1000001": "cmd 5: form", "switch A": "cmd 5: name", "switch a 1": "cmd 5: form", "switch -f": "cmd 5: name", "switch a -f -f": "cmd 5: form", "switch a  -f": "cmd 5: form",
 		"reset": "cmd 6: form", "reset soft": "cmd 6: form", "reset 1 soft": "cmd 6: form", "reset firm 1": "cmd 6: name", "reset firm 0": "cmd 6: name", "reset soft 0": "cmd 6: arg", "reset soft 1 2": "cmd 6: form",
-		"merge": "cmd 7: form", "merge a/b": "cmd 7: name", "pick": "cmd 8: form", "pick x": "cmd 8: form", "pick -1": "cmd 8: form", "pick 0": "cmd 8: arg", "pick 99999999999999999999999": "cmd 8: form", "revert 00": "cmd 9: form",
+		"merge": "cmd 7: form", "merge a/b": "cmd 7: name", "pick": "cmd 8: form", "pick x": "cmd 8: form", "pick -1": "cmd 8: form", "pick 0": "cmd 8: arg", "pick 99999999999999999999999": "cmd 8: form", "pick 18446744073709551617": "cmd 8: form", "revert 00": "cmd 9: form",
 		"stash ": "cmd 10: form", "stash a\n": "cmd 10: form", "pop": "cmd 11: form", "apply 1 2": "cmd 12: form", "shelve ": "cmd 13: form",
 		"rebase": "cmd 14: form", "rebase x\nnope": "cmd 14: form", "rebase 0\npick": "cmd 14: line 0: form", "rebase 1\n\nnope 1": "cmd 14: line 1: name", "rebase 0\n": "cmd 14: arg", "rebase 1 pick 1": "cmd 14: form",
 		"continue x": "cmd 15: form", "skip ": "cmd 16: form", "abort\n": "cmd 17: form", "undo 1": "cmd 18: form", "redo  ": "cmd 19: form",

@@ -53,6 +53,11 @@ func TestItemsComeBack(t *testing.T) {
 	if d.Int() != 3 || d.Int() != -7 || d.Text() != "" || d.Text() != "a\x00b" || d.Text() != strings.Repeat("x", 200) || d.Left() != 6 || d.Int() != 1<<40 || d.Left() != 0 || d.Err() != nil {
 		t.Error("not what was put")
 	}
+	var last codec.Enc
+	last.Text("end")
+	if d := codec.Of(last.Bytes()); d.Text() != "end" || d.Left() != 0 || d.Err() != nil {
+		t.Error("a text at the end")
+	}
 	if again := e.Bytes(); bytes.Equal(again, b) || len(again) != len(b) {
 		t.Error("Bytes shares its answers")
 	}

@@ -56,7 +56,7 @@ func TestCheck(t *testing.T) {
 		{list("a0 A0"), 1, api.ErrName}, {list(strings.Repeat("a", 65) + "0"), 0, api.ErrLong},
 		{list("a4"), 0, api.ErrArg}, {[]index.Entry{{Path: "a", Mode: 1, Stage: -1}}, 0, api.ErrArg}, {[]index.Entry{{Path: "a"}}, 0, api.ErrArg}, {[]index.Entry{{Path: "a", Mode: 3, Data: strings.Repeat("x", 4097)}}, 0, api.ErrArg},
 		{[]index.Entry{{Path: "a", Mode: 1, Time: -1}}, 0, api.ErrArg}, {[]index.Entry{{Path: "a", Mode: 1, Size: -1}}, 0, api.ErrArg}, {[]index.Entry{{Path: "a", Mode: 2, Data: strings.Repeat("x", 4097)}}, 0, api.ErrLong},
-		{list("a0 a0"), 1, api.ErrTwice}, {list("b0 a0"), 1, api.ErrTwice}, {list("a2 a1"), 1, api.ErrTwice}, {list("a0 a1"), 1, api.ErrTwice}, {list("a1 a0"), 1, api.ErrTwice}, {list("a0 a2"), 1, api.ErrTwice},
+		{[]index.Entry{{Path: "a", Mode: 2, Data: strings.Repeat("x", 4096)}}, 0, api.OK}, {list("a0 a0"), 1, api.ErrTwice}, {list("b0 a0"), 1, api.ErrTwice}, {list("a2 a1"), 1, api.ErrTwice}, {list("a0 a1"), 1, api.ErrTwice}, {list("a1 a0"), 1, api.ErrTwice}, {list("a0 a2"), 1, api.ErrTwice},
 		{list("a1 a3"), 0, api.OK}, {list("a1 a-0 a/b1"), 2, api.ErrWay},
 	} {
 		err := index.Check(c.l)
@@ -149,6 +149,9 @@ func TestEncodeAndDecode(t *testing.T) {
 	}
 	if back, err := index.Decode(b); err != nil || !slices.Equal(back, l) {
 		t.Errorf("%v, %v", back, err)
+	}
+	if back, err := index.Decode(seal.Put([]byte{0})); err != nil || len(back) != 0 {
+		t.Errorf("of none: %v, %v", back, err)
 	}
 	if b, err := index.Encode(nil); err != nil || !bytes.Equal(b, seal.Put([]byte{0})) {
 		t.Errorf("%q, %v", b, err)

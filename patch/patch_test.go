@@ -74,7 +74,7 @@ func TestApplyRefuses(t *testing.T) {
 		{[]patch.Hunk{hunk(0, 1, 0, 2, "-a+x+y"), hunk(2, 1, 2, 1, "=c")}, 1, api.ErrArg}, {[]patch.Hunk{hunk(9, 1, 8, 1, "=z")}, 0, api.ErrArg},
 		{[]patch.Hunk{hunk(0, 1, 0, 2, "=a+x"), hunk(math.MaxInt, 0, math.MaxInt, 0, "")}, 1, api.ErrArg}, {[]patch.Hunk{hunk(0, 1, 0, 2, "=a+x"), hunk(math.MaxInt, 0, math.MinInt, 0, "")}, 1, api.ErrArg},
 		{[]patch.Hunk{hunk(3, 1, 3, 1, "=z")}, 0, api.ErrLong}, {[]patch.Hunk{hunk(4, 0, 4, 0, "")}, 0, api.ErrLong}, {[]patch.Hunk{hunk(math.MaxInt, 1, math.MaxInt, 0, "-a")}, 0, api.ErrLong}, {[]patch.Hunk{hunk(2, 2, 2, 2, "=x=y")}, 0, api.ErrLong},
-		{[]patch.Hunk{hunk(0, 1, 0, 1, "=b")}, 0, api.ErrConflict}, {[]patch.Hunk{hunk(1, 1, 1, 0, "-a")}, 0, api.ErrConflict}, {[]patch.Hunk{hunk(0, 1, 0, 1, "=b"), hunk(0, 0, 0, 0, "?a")}, 0, api.ErrConflict},
+		{[]patch.Hunk{hunk(0, 1, 0, 1, "=b")}, 0, api.ErrConflict}, {[]patch.Hunk{hunk(0, 2, 0, 3, "=a+x=z")}, 0, api.ErrConflict}, {[]patch.Hunk{hunk(1, 1, 1, 0, "-a")}, 0, api.ErrConflict}, {[]patch.Hunk{hunk(0, 1, 0, 1, "=b"), hunk(0, 0, 0, 0, "?a")}, 0, api.ErrConflict},
 	} {
 		got, err := patch.Apply(a, c.h...)
 		var f *api.Fault

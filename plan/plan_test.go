@@ -94,6 +94,23 @@ func TestApply(t *testing.T) {
 	}
 }
 
+func TestApplyOfOneConflict(t *testing.T) {
+	r := tmerge.Result{Files: row("a=<1>"), Entries: []index.Entry{entry("a", 2, "1"), entry("a", 3, "2")}, Conflicts: []string{"a"}}
+	ix, work, err := plan.Apply(row("a=1"), r, index.Of(row("a=1")), row("a=1"))
+	if err != nil || !slices.Equal(ix, r.Entries) || !work.Same(r.Files) {
+		t.Errorf("%v, %v, %v", ix, work, err)
+	}
+}
+
+func TestForceIsAnew(t *testing.T) {
+	work := row("a=1")
+	_, got := plan.Force(nil, nil, nil, work)
+	got[0].Data = "z"
+	if !work.Same(row("a=1")) {
+		t.Error("an answer shares memory")
+	}
+}
+
 func TestApplyOfNothingIsAnew(t *testing.T) {
 	head := row("a=1")
 	ix := index.Of(head)

@@ -47,11 +47,12 @@ func TestWriteRefuses(t *testing.T) {
 	want(t, "as many", f.Write("c", api.Run, make([]byte, 40)), api.OK)
 	want(t, "none", f.Write("d", api.Plain, nil), api.OK)
 	f.Quota(10)
+	want(t, "as many above it", f.Write("c", api.Plain, make([]byte, 40)), api.OK)
 	want(t, "fewer", f.Write("c", api.Plain, make([]byte, 39)), api.OK)
 	want(t, "one", f.Write("d", api.Plain, make([]byte, 1)), api.ErrQuota)
 	f.Quota(-1)
 	want(t, "the greatest", f.Write("d", api.Plain, big[:65536]), api.OK)
-	if f.Used() != 60+39+65536 || f.Ops() != 6 || f.Pending() != 6 {
+	if f.Used() != 60+39+65536 || f.Ops() != 7 || f.Pending() != 7 {
 		t.Errorf("%d used, %d ops, %d pending", f.Used(), f.Ops(), f.Pending())
 	}
 }

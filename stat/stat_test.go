@@ -48,6 +48,7 @@ func TestChanged(t *testing.T) {
 	}
 	l := []index.Entry{
 		{Path: "fresh", Mode: 1, Data: "not asked", Time: 1, Size: 4},
+		{Path: "first", Stage: 1, Mode: 1, Data: "x"},
 		{Path: "gone", Mode: 1, Time: 1},
 		{Path: "late", Mode: 1, Data: "xxx", Time: 2, Size: 3},
 		{Path: "mode", Mode: 2, Data: "m", Time: 1, Size: 1},

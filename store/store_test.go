@@ -128,6 +128,11 @@ func TestReach(t *testing.T) {
 			t.Errorf("Reach(%v): %v", c.ids, got)
 		}
 	}
+	room := []int{6, -7, -8, -9}
+	s.Reach(room[:1]...)
+	if !slices.Equal(room, []int{6, -7, -8, -9}) {
+		t.Errorf("spare room changed: %v", room)
+	}
 }
 
 func TestNothingIsShared(t *testing.T) {

@@ -26,6 +26,7 @@ func TestOne(t *testing.T) {
 	marked := func(a, b string) string { return "<<<<<<< A\n" + a + "=======\n" + b + ">>>>>>> B\n" }
 	big := strings.Repeat("o", 2100) + "\n"
 	big2 := strings.Repeat("t", 2100) + "\n"
+	half := strings.Repeat("h", 2047) + "\n"
 	for i, c := range []struct {
 		base, ours, theirs, want files.Row
 		clash                    bool
@@ -41,6 +42,7 @@ func TestOne(t *testing.T) {
 		{nil, plain(""), plain("c\n"), plain("c\n"), false},
 		{plain("a"), nil, plain("b"), plain("b"), true}, {plain("a"), plain("b"), nil, plain("b"), true}, {plain("a"), run("a"), nil, run("a"), true}, {plain("a"), nil, run("a"), run("a"), true},
 		{plain("a"), plain(long), run("b"), run(long), true}, {plain("a"), plain("b"), plain(long), plain("b"), true}, {plain(long), plain("b"), plain("c"), plain("b"), true}, {plain("a"), plain("a"), plain(long), plain(long), false},
+		{plain("k\n"), plain(half + "k\n"), plain("k\n" + half[2:]), plain(half + "k\n" + half[2:]), false}, {plain("k\n"), plain(half + "k\n"), plain("k\n" + half[1:]), plain(half + "k\n"), true},
 		{plain("a\n"), plain(big), plain(big2), plain(big), true}, {plain("k\n"), plain(big + "k\n"), plain("k\n" + big2), plain(big + "k\n"), true},
 	} {
 		f, there, clash := tmerge.One("p", c.base, c.ours, c.theirs, "A", "B")

@@ -30,7 +30,7 @@ func TestTextAndParse(t *testing.T) {
 
 func TestParseTakes(t *testing.T) {
 	for s, want := range map[string][]todo.Step{
-		"": nil, "\n \n\n": nil, "# pick\n  #\n#x 1 2": nil, "pick 1": {{"pick", 1, ""}}, "  pick   1  \n": {{"pick", 1, ""}}, "\n#\npick 7\n\ndrop 8": {{"pick", 7, ""}, {"drop", 8, ""}},
+		"": nil, "\n \n\n": nil, "# pick\n  #\n#x 1 2": nil, "pick 1": {{"pick", 1, ""}}, "pick 9\ndrop 190\nedit 909090": {{"pick", 9, ""}, {"drop", 190, ""}, {"edit", 909090, ""}}, "  pick   1  \n": {{"pick", 1, ""}}, "\n#\npick 7\n\ndrop 8": {{"pick", 7, ""}, {"drop", 8, ""}},
 		" reword  5  x": {{"reword", 5, " x"}}, "reword 5  ": {{"reword", 5, " "}}, "reword 5 " + strings.Repeat("x", 256): {{"reword", 5, strings.Repeat("x", 256)}}, "reword 5 # 1": {{"reword", 5, "# 1"}}, "reword 5 \t": {{"reword", 5, "\t"}},
 	} {
 		if got, err := todo.Parse(s); err != nil || !slices.Equal(got, want) {
@@ -46,7 +46,7 @@ func TestParseRefuses(t *testing.T) {
 		want api.Errno
 	}{
 		{"pick", 0, api.ErrForm}, {"nope", 0, api.ErrForm}, {"pick ", 0, api.ErrForm}, {"\n\n#\n pick\nnope 0", 3, api.ErrForm}, {"nope 0", 0, api.ErrName}, {"Pick 1", 0, api.ErrName}, {"\tpick 1", 0, api.ErrName}, {"pick# 1", 0, api.ErrName},
-		{"pick 0", 0, api.ErrArg}, {"pick 01", 0, api.ErrArg}, {"pick -1", 0, api.ErrArg}, {"pick +1", 0, api.ErrArg}, {"pick x y", 0, api.ErrArg}, {"pick 1000001", 0, api.ErrArg}, {"pick 99999999999999999999", 0, api.ErrArg}, {"pick 1x", 0, api.ErrArg}, {"pick 1\t", 0, api.ErrArg}, {"pick 1\r\n", 0, api.ErrArg},
+		{"pick 0", 0, api.ErrArg}, {"pick 01", 0, api.ErrArg}, {"pick -1", 0, api.ErrArg}, {"pick +1", 0, api.ErrArg}, {"pick x y", 0, api.ErrArg}, {"pick 1000001", 0, api.ErrArg}, {"pick 99999999999999999999", 0, api.ErrArg}, {"pick 18446744073709551617", 0, api.ErrArg}, {"pick 1x", 0, api.ErrArg}, {"pick 1\t", 0, api.ErrArg}, {"pick 1\r\n", 0, api.ErrArg},
 		{"pick 1 2", 0, api.ErrForm}, {"drop 1 #", 0, api.ErrForm}, {"pick 1 \t", 0, api.ErrForm}, {"reword 1", 0, api.ErrForm}, {"reword 1 ", 0, api.ErrForm}, {"reword 0 ", 0, api.ErrArg}, {"reword", 0, api.ErrForm},
 		{"reword 1 " + strings.Repeat("x", 257), 0, api.ErrLong}, {"pick 1\nreword 1\n" + strings.Repeat("pick 1\n", 40), 1, api.ErrForm},
 		{strings.Repeat("#\npick 1\n", 33), 32, api.ErrLong}, {strings.Repeat("pick 1\n", 32) + "#\npick 0\npick 1", 33, api.ErrArg},
@@ -72,7 +72,7 @@ func TestCheck(t *testing.T) {
 		at   int
 		want api.Errno
 	}{
-		{nil, 0, api.OK}, {long[1:], 0, api.OK}, {long, 32, api.ErrLong}, {[]todo.Step{pick, {Verb: "Pick", Commit: 9}}, 1, api.ErrName}, {[]todo.Step{{Verb: "", Commit: 1}}, 0, api.ErrName},
+		{nil, 0, api.OK}, {[]todo.Step{{Verb: "pick", Commit: 1}}, 0, api.OK}, {long[1:], 0, api.OK}, {long, 32, api.ErrLong}, {[]todo.Step{pick, {Verb: "Pick", Commit: 9}}, 1, api.ErrName}, {[]todo.Step{{Verb: "", Commit: 1}}, 0, api.ErrName},
 		{[]todo.Step{{Verb: "pick"}}, 0, api.ErrArg}, {[]todo.Step{{Verb: "squash", Commit: 5}}, 0, api.ErrArg}, {[]todo.Step{pick, {Verb: "drop", Commit: 4}}, 1, api.ErrArg}, {[]todo.Step{{Verb: "drop", Commit: -3}}, 0, api.ErrArg},
 		{[]todo.Step{{Verb: "squash", Commit: 1}, {Verb: "x"}}, 0, api.ErrState}, {[]todo.Step{{Verb: "drop", Commit: 1}, {Verb: "fixup", Commit: 2}}, 1, api.ErrState},
 		{[]todo.Step{{Verb: "drop", Commit: 1}, {Verb: "reword", Commit: 3}, {Verb: "fixup", Commit: 2}, {Verb: "squash", Commit: 2}}, 0, api.OK}, {[]todo.Step{{Verb: "drop", Commit: 1}}, 0, api.OK},
@@ -82,6 +82,12 @@ func TestCheck(t *testing.T) {
 		if c.want == api.OK && err != nil || c.want != api.OK && (!errors.As(err, &f) || f.Part != "step" || f.At != c.at || f.Err != c.want) {
 			t.Errorf("%d: %v", i, err)
 		}
+	}
+}
+
+func TestTheLastCommitIsOne(t *testing.T) {
+	if err := todo.Check([]todo.Step{{Verb: "pick", Commit: 2}}, graph.Graph{nil, {1}}); err != nil {
+		t.Error(err)
 	}
 }
 
