@@ -485,6 +485,8 @@ func TestMergeStops(t *testing.T) {
 	s.say("commit x", "conflict")
 	s.say("continue", "conflict")
 	s.say("rm k", "dirty")
+	s.say("rm a", "dirty")
+	s.twin().say("rm a -f", "")
 	w := s.twin()
 	w.say("abort", "")
 	if state.Mark(w.Now) != mine || mine == ahead {
@@ -719,6 +721,11 @@ func TestRebase(t *testing.T) {
 	w.hasCommit(5, "a=x\n2\ny\n d=d k=k", "other words", 3)
 	if w.Head != on("", 5) || w.Refs[2].Commit != 4 || w.Refs[1].Commit != 2 {
 		t.Errorf("%v, %v", w.Head, w.Refs)
+	}
+	w = s.twin()
+	w.say("rebase 3\npick 3\nsquash 3\nedit 3\n", "")
+	if w.Head != on("main", 3) || len(w.Commits) != 4 {
+		t.Errorf("what is as Head makes a commit: %v", w.Head)
 	}
 	w = s.twin()
 	w.say("rebase 3\npick 3\nreword 3 not told\n", "")

@@ -131,7 +131,8 @@ func TestUnmarkOfAnyEnds(t *testing.T) {
 			}
 		}
 	}
-	for _, bad := range []string{"", "no mark", s + "x", s[:len(s)-1], "\x01" + s[1:]} {
+	none := state.Mark(state.New().Now)
+	for _, bad := range []string{"\x01" + none[1:], none[:1] + "\x01" + none[2:], none[:len(none)-1] + "\x01", "", "no mark", s + "x", s[:len(s)-1], "\x01" + s[1:]} {
 		if _, err := state.Unmark(bad); err == nil {
 			t.Errorf("%q is taken", bad)
 		}
@@ -187,8 +188,12 @@ func TestSame(t *testing.T) {
 		n := someNow()
 		change(&n)
 		s.Log.Forth[0] = state.Mark(n)
+		ahead := string(state.Encode(s))
 		if !state.Same(s, some()) || !state.Same(some(), s) {
 			t.Errorf("%d: times are asked", i)
+		}
+		if string(state.Encode(s)) != ahead {
+			t.Errorf("%d: what was handed in changed", i)
 		}
 		if state.Mark(n) == state.Mark(someNow()) {
 			t.Errorf("%d: what was handed in changed", i)
@@ -218,7 +223,7 @@ func TestCheck(t *testing.T) {
 		{func(s *state.State) { s.Refs[0].Name = "9" }, "state 2: name"}, {func(s *state.State) { s.Refs[1].Name = "dev" }, "state 2: twice"}, {func(s *state.State) { s.Refs[0].Name = "z" }, "state 2: twice"}, {func(s *state.State) { s.Refs[0].Commit = 0 }, "state 2: arg"}, {func(s *state.State) { s.Refs[1].Commit = 3 }, "state 2: arg"},
 		{func(s *state.State) { s.Head.Branch = "A" }, "state 3: name"}, {func(s *state.State) { s.Head.Commit = 1 }, "state 3: arg"}, {func(s *state.State) { s.Head.Branch = "new" }, "state 3: arg"}, {func(s *state.State) { s.Head = names.Head{Branch: "new"} }, ""}, {func(s *state.State) { s.Head = names.Head{Commit: 1} }, ""}, {func(s *state.State) { s.Head = names.Head{} }, "state 3: arg"}, {func(s *state.State) { s.Head = names.Head{Commit: 3} }, "state 3: arg"},
 		{func(s *state.State) { s.Commits[1].Parents = []int{2}; s.Commits[0].Time = -1 }, "state 4: arg"}, {func(s *state.State) { s.Commits[1].Tree[0].Path = ""; s.Commits[1].Time = -1 }, "state 4: file 0: name"}, {func(s *state.State) { s.Commits[1].Time = -1; s.Commits[1].Text = long }, "state 4: arg"}, {func(s *state.State) { s.Commits[0].Text = long; s.Commits[1].Time = -1 }, "state 4: long"}, {func(s *state.State) { s.Commits = make([]state.Commit, 1025) }, "state 4: long"}, {func(s *state.State) { s.Commits = append(s.Commits, state.Commit{Parents: []int{1, 1}}) }, "state 4: twice"},
-		{func(s *state.State) { s.Stash[0].Base = 0 }, "state 5: arg"}, {func(s *state.State) { s.Stash[0].Base = 3 }, "state 5: arg"}, {func(s *state.State) { s.Stash[0].Index[0].Mode = 0; s.Stash[0].Work[0].Path = "" }, "state 5: file 0: arg"}, {func(s *state.State) { s.Stash[0].Work[0].Path = ""; s.Time = -1 }, "state 5: file 0: name"},
+		{func(s *state.State) { s.Commits[0].Time = 0; s.Commits[1].Text = long[:256] }, ""}, {func(s *state.State) { s.Stash[0].Base = 0 }, "state 5: arg"}, {func(s *state.State) { s.Stash[0].Base = 3 }, "state 5: arg"}, {func(s *state.State) { s.Stash[0].Index[0].Mode = 0; s.Stash[0].Work[0].Path = "" }, "state 5: file 0: arg"}, {func(s *state.State) { s.Stash[0].Work[0].Path = ""; s.Time = -1 }, "state 5: file 0: name"},
 		{func(s *state.State) { s.Time = -1 }, "state 6: arg"},
 	} {
 		s := some()
