@@ -63,11 +63,48 @@ func TestLost(t *testing.T) {
 		}
 		gotIx, gotWork, err := plan.Apply(row(c.head), c.r, c.ix, row(c.work))
 		var f *api.Fault
-		if c.want == "" && err != nil || c.want != "" && (!errors.As(err, &f) || f.Part != "path" || f.At != len(strings.Fields(c.want)) || f.Err != api.ErrDirty || gotIx != nil || gotWork != nil) {
-			t.Errorf("%d: Apply: %v", i, err)
+		if c.want == "" && err != nil || c.want != "" && (!errors.As(err, &f) || f.Part != "path" || f.At != len(strings.Fields(c.want)) || f.Err != api.ErrDirty || !slices.Equal(gotIx, ix) || !gotWork.Same(row(c.work))) {
+			t.Errorf("%d: Apply: %v, %v, %v", i, gotIx, gotWork, err)
 		}
 		if !slices.Equal(c.ix, ix) {
 			t.Errorf("%d: what was handed in changed", i)
+		}
+	}
+}
+
+// What is refused is told as it was: Time and Size, other Stages, what is not tracked, too.
+func TestApplyRefusedTellsWhatWas(t *testing.T) {
+	was := []index.Entry{entry("a", 1, "o"), entry("a", 3, "2"), {Path: "k", Mode: api.Run, Data: "1", Time: 3, Size: 4}, {Path: "u", Mode: api.Plain, Data: "staged", Time: 5, Size: 6}}
+	for i, c := range []struct {
+		head string
+		r    tmerge.Result
+		ix   []index.Entry
+		work string
+		lost int
+	}{
+		{"a=1 !k=1", to("a=2 n=1"), was, "a=<1> !k=1 u=mine", 1},
+		{"a=1 !k=1", to("a=2 k=2 u=3"), was, "a=<1> !k=8 u=mine z=z", 3},
+		{"", to("n=1"), nil, "n=mine", 1},
+		{"a=1", to(""), was[2:], "", 1},
+		{"", tmerge.Result{Conflicts: []string{"g"}, Entries: []index.Entry{entry("g", 1, "1")}}, was[2:], "g=mine", 1},
+	} {
+		ix, work := slices.Clone(c.ix), row(c.work)
+		gotIx, gotWork, err := plan.Apply(row(c.head), c.r, ix, work)
+		var f *api.Fault
+		if !errors.As(err, &f) || f.Part != "path" || f.At != c.lost || f.Err != api.ErrDirty {
+			t.Errorf("%d: %v", i, err)
+		}
+		if !slices.Equal(gotIx, c.ix) || !slices.Equal(gotWork, row(c.work)) {
+			t.Errorf("%d: %v, %v", i, gotIx, gotWork)
+		}
+		for k := range gotIx {
+			gotIx[k].Path = "spoilt"
+		}
+		for k := range gotWork {
+			gotWork[k].Path = "spoilt"
+		}
+		if !slices.Equal(ix, c.ix) || !slices.Equal(work, row(c.work)) {
+			t.Errorf("%d: an answer shares memory", i)
 		}
 	}
 }
