@@ -73,24 +73,30 @@ func (d *desk) step(x todo.Step) (bool, error) {
 	return d.finish(x, r.Files)
 }
 
-// finish makes of a step's tree what its verb says; it tells whether one stays with it.
+// finish makes of a step's tree what its verb says; it tells whether one stays with it: with an
+// edit, whether there was something to commit or not.
 func (d *desk) finish(x todo.Step, tree files.Row) (bool, error) {
+	return x.Verb == "edit", d.keepStep(x, tree)
+}
+
+// keepStep makes the commit of a step, if it makes one.
+func (d *desk) keepStep(x todo.Step, tree files.Row) error {
 	text := d.textOf(x.Commit)
 	switch x.Verb {
 	case "squash", "fixup":
 		if d.Seq.Made > 0 && d.has(d.Head.Commit) {
-			return false, d.amend(x, tree, text)
+			return d.amend(x, tree, text)
 		}
 		fallthrough
 	default:
 		if tree.Same(d.head()) {
-			return false, nil
+			return nil
 		}
 	}
 	if x.Verb == "reword" {
 		text = x.Text
 	}
-	return x.Verb == "edit", d.made(d.record(tree, text, d.Head.Commit))
+	return d.made(d.record(tree, text, d.Head.Commit))
 }
 
 // amend makes Head's commit anew.

@@ -723,7 +723,7 @@ func TestRebase(t *testing.T) {
 		t.Errorf("%v, %v", w.Head, w.Refs)
 	}
 	w = s.twin()
-	w.say("rebase 3\npick 3\nsquash 3\nedit 3\n", "")
+	w.say("rebase 3\npick 3\nsquash 3\nfixup 3\n", "")
 	if w.Head != on("main", 3) || len(w.Commits) != 4 {
 		t.Errorf("what is as Head makes a commit: %v", w.Head)
 	}
@@ -814,6 +814,135 @@ func TestEditStops(t *testing.T) {
 	s.has("a=1\n b=b d=d m=m", "", on("", 8))
 	s.say("skip", "")
 	s.has("a=1\n b=b d=d m=m", "", on("top", 8))
+}
+
+// standsAt holds where a rebase has stopped: detached, with nothing in Doing.
+func (s *shop) standsAt(commit int, left string, made, commits int) {
+	s.t.Helper()
+	if s.Seq.Kind != "rebase" || len(s.Seq.Doing) != 0 || todo.Text(s.Seq.Todo) != left || s.Seq.Made != made || s.Head != on("", commit) || len(s.Commits) != commits {
+		s.t.Errorf("%+v, %v, %d commits", s.Seq, s.Head, len(s.Commits))
+	}
+}
+
+// ended holds where a rebase came to its end.
+func (s *shop) ended(head names.Head, commits int) {
+	s.t.Helper()
+	if !reflect.DeepEqual(s.Seq, state.Seq{}) || s.Head != head || len(s.Commits) != commits {
+		s.t.Errorf("%+v, %v, %d commits", s.Seq, s.Head, len(s.Commits))
+	}
+}
+
+func TestEditThatMakesNoCommitStops(t *testing.T) {
+	s := open(t)
+	s.save("t", "a=")
+	s.say("rebase 1\nedit 1\n", "")
+	s.standsAt(1, "", 0, 1)
+	if s.Seq.Branch != "main" || s.Seq.Head != on("main", 1) || shownRow(s.Seq.Work) != "a=" {
+		t.Errorf("%+v", s.Seq)
+	}
+	s.twin().say("switch main", "state")
+	for _, line := range []string{"continue", "skip", "abort"} {
+		w := s.twin()
+		w.say(line, "")
+		w.ended(on("main", 1), 1)
+		w.has("a=", "", on("main", 1))
+	}
+	w := s.twin()
+	got, err := state.Decode(state.Encode(w.State))
+	if err != nil || !state.Same(got, w.State) {
+		t.Fatal(err)
+	}
+	w.State = got
+	w.save("by hand", "b=")
+	w.standsAt(2, "", 0, 2)
+	w.say("continue", "")
+	w.ended(on("main", 2), 2)
+	s.say("undo", "")
+	s.ended(on("main", 1), 1)
+	s.say("redo", "")
+	s.standsAt(1, "", 0, 1)
+}
+
+func TestEditThatMakesNoCommitKeepsWhatIsLeft(t *testing.T) {
+	s := chain(t)
+	s.say("rebase 1\nedit 1\nfixup 2\nedit 2\nedit 2\npick 3\n", "")
+	s.standsAt(1, "fixup 2\nedit 2\nedit 2\npick 3\n", 0, 6)
+	s.has("a=1\n", "", on("", 1))
+	w := s.twin()
+	w.write("a", "mine")
+	w.say("add a", "")
+	w.say("continue", "dirty")
+	w.standsAt(1, "fixup 2\nedit 2\nedit 2\npick 3\n", 0, 6)
+	w = s.twin()
+	w.say("skip", "")
+	w.hasCommit(7, "a=1\n b=b", "add b", 1)
+	w.standsAt(7, "edit 2\npick 3\n", 1, 7)
+	s.say("continue", "")
+	s.hasCommit(7, "a=1\n b=b", "add b", 1)
+	s.standsAt(7, "edit 2\npick 3\n", 1, 7)
+	w = s.twin()
+	w.say("skip", "")
+	w.ended(on("top", 8), 8)
+	s.say("continue", "")
+	s.standsAt(7, "pick 3\n", 1, 7)
+	s.say("continue", "")
+	s.ended(on("top", 8), 8)
+	s.has("a=1\n b=b c=c", "", on("top", 8))
+}
+
+// Of the verbs that make no commit of what is as Head, edit alone stops.
+func TestOnlyEditStopsWithoutACommit(t *testing.T) {
+	for _, line := range []string{"pick 1", "pick 1\nsquash 1", "pick 1\nfixup 1", "reword 1 x", "drop 1"} {
+		s := open(t)
+		s.save("t", "a=")
+		s.say("rebase 1\n"+line+"\n", "")
+		s.ended(on("main", 1), 1)
+	}
+}
+
+// onto4 stops in a conflict of commit 2 and commit 4.
+func onto4(t *testing.T, steps string) *shop {
+	t.Helper()
+	s := fork(t)
+	s.say("rebase 4\n"+steps, "conflict")
+	if len(s.Seq.Doing) != 1 {
+		t.Fatalf("%+v", s.Seq)
+	}
+	return s
+}
+
+func TestEditDecidedAsHeadStops(t *testing.T) {
+	s := onto4(t, "edit 2\npick 3\n")
+	s.say("continue", "conflict")
+	w := s.twin()
+	s.write("a", "z\n2\n3\n")
+	s.say("add a", "")
+	s.say("continue", "")
+	s.standsAt(4, "pick 3\n", 0, 4)
+	s.say("continue", "")
+	s.ended(on("main", 5), 5)
+	w.write("a", "zx\n2\n3\n")
+	w.say("add a", "")
+	w.say("continue", "")
+	w.standsAt(5, "pick 3\n", 1, 5)
+	for _, step := range []string{"pick 2", "reword 2 x"} {
+		s = onto4(t, step+"\n")
+		s.write("a", "z\n2\n3\n")
+		s.say("add a", "")
+		s.say("continue", "")
+		s.ended(on("main", 4), 4)
+	}
+}
+
+func TestSkipComesToAnEditThatMakesNoCommit(t *testing.T) {
+	s := onto4(t, "pick 2\nedit 4\npick 3\n")
+	s.say("skip", "")
+	s.standsAt(4, "pick 3\n", 0, 4)
+	s.say("skip", "")
+	s.ended(on("main", 4), 4)
+	s = onto4(t, "edit 2\n")
+	s.say("skip", "")
+	s.ended(on("main", 4), 4)
 }
 
 func TestRebaseStopsAtConflicts(t *testing.T) {
